@@ -1,4 +1,4 @@
-// Package grid: which keys there are: see DOC.md, the section Words.
+// Package grid: which keys and zooms there are: see DOC.md, the section Words.
 package grid
 
 import "atlas/api"
@@ -8,7 +8,7 @@ func KeyError(k api.Key) api.Errno {
 	if k.Layer < 0 || k.Layer >= api.Layers {
 		return api.ErrLayer
 	}
-	if k.Z < 0 || k.Z > api.MaxZoom {
+	if !isZoom(k.Z) {
 		return api.ErrZoom
 	}
 	tiles := 1 << k.Z
@@ -16,4 +16,16 @@ func KeyError(k api.Key) api.Errno {
 		return api.ErrPlace
 	}
 	return api.OK
+}
+
+// Unit gives the side of a pixel at a zoom, 0 if there is no such zoom.
+func Unit(zoom int) int {
+	if !isZoom(zoom) {
+		return 0
+	}
+	return (api.World / api.Side) >> zoom
+}
+
+func isZoom(zoom int) bool {
+	return zoom >= 0 && zoom <= api.MaxZoom
 }

@@ -56,3 +56,17 @@ func TestKeyErrorPlaces(t *testing.T) {
 		tiles *= 2
 	}
 }
+
+// TestUnit: the section Words, the unit of each zoom, and of what is none.
+func TestUnit(t *testing.T) {
+	for z := 0; z <= 22; z++ {
+		if u, want := Unit(z), int(math.Pow(2, float64(27-z))); u != want {
+			t.Errorf("Unit(%d) = %d, want %d", z, u, want)
+		}
+	}
+	for _, z := range []int{math.MinInt, -64, -1, 23, 27, 28, 63, 64, math.MaxInt} {
+		if u := Unit(z); u != 0 {
+			t.Errorf("Unit(%d) = %d, but there is no such zoom", z, u)
+		}
+	}
+}
